@@ -1,0 +1,1 @@
+"""Pursewise: gifts that level a row of purses."""
